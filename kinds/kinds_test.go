@@ -11,7 +11,7 @@ func TestTableOfKinds(t *testing.T) {
 	names := map[int]string{api.Start: "start", api.Task: "task", api.Choice: "choice", api.Fork: "fork", api.Join: "join", api.Sub: "sub", api.End: "end"}
 	for kind := -1; kind < 10; kind++ {
 		row, ok := OfKind(table, kind)
-		if row.Name != names[kind] || ok != (names[kind] != "") {
+		if row.Name != names[kind] || ok != (names[kind] != "") || ok != (row.Move != nil) {
 			t.Errorf("OfKind(%d) = %+v, %v", kind, row, ok)
 		}
 		if named, _ := OfName(table, names[kind]); ok && named.Kind != kind {
@@ -19,7 +19,7 @@ func TestTableOfKinds(t *testing.T) {
 		}
 	}
 	for _, name := range []string{"process", "when", "else", "branch", "timer"} {
-		if row, ok := OfName(table, name); !ok || row.Kind != 0 {
+		if row, ok := OfName(table, name); !ok || row.Kind != 0 || row.Move != nil {
 			t.Errorf("OfName(%q) = %+v, %v", name, row, ok)
 		}
 	}

@@ -1,7 +1,10 @@
 // Package kinds has the table of the elements and of the kinds of nodes: what each of them is.
 package kinds
 
-import "ferry/api"
+import (
+	"ferry/api"
+	"ferry/tokens"
+)
 
 // Fields are those of a node that not every node has.
 type Fields uint
@@ -35,23 +38,24 @@ type Row struct {
 	Kind   int                 // of the node; 0: it is no node
 	Must   Fields
 	May    Fields
-	Passed bool // a token that comes there may go on at once
+	Passed bool                                // a token that comes there may go on at once
+	Move   func(r *tokens.Run, t tokens.Token) // what a token that comes there does
 }
 
 // Table is made by a function, as tables of function values do not stand at package level.
 func Table() []Row {
 	return []Row{
 		{Name: "process", Attrs: must("id"), Within: nodesAndTimers},
-		{Name: "start", Attrs: must("id", "to"), Within: nothing, Kind: api.Start, Must: To},
-		{Name: "task", Attrs: free(must("id", "to"), "name"), Within: nothing, Kind: api.Task, Must: To, May: Name | Timer},
-		{Name: "choice", Attrs: must("id"), Within: whensAndElse, Kind: api.Choice, Must: Else, May: Cases, Passed: true},
+		{Name: "start", Attrs: must("id", "to"), Within: nothing, Kind: api.Start, Must: To, Move: goOn},
+		{Name: "task", Attrs: free(must("id", "to"), "name"), Within: nothing, Kind: api.Task, Must: To, May: Name | Timer, Move: stay},
+		{Name: "choice", Attrs: must("id"), Within: whensAndElse, Kind: api.Choice, Must: Else, May: Cases, Passed: true, Move: choose},
 		{Name: "when", Attrs: must("var", "op", "value", "to"), Within: nothing},
 		{Name: "else", Attrs: must("to"), Within: nothing},
-		{Name: "fork", Attrs: must("id"), Within: branches, Kind: api.Fork, Must: Branches, Passed: true},
+		{Name: "fork", Attrs: must("id"), Within: branches, Kind: api.Fork, Must: Branches, Passed: true, Move: split},
 		{Name: "branch", Attrs: must("to"), Within: nothing},
-		{Name: "join", Attrs: must("id", "to"), Within: nothing, Kind: api.Join, Must: To, Passed: true},
-		{Name: "sub", Attrs: must("id", "to"), Within: nodesAndTimers, Kind: api.Sub, Must: To, May: Timer, Passed: true},
-		{Name: "end", Attrs: must("id"), Within: nothing, Kind: api.End},
+		{Name: "join", Attrs: must("id", "to"), Within: nothing, Kind: api.Join, Must: To, Passed: true, Move: meet},
+		{Name: "sub", Attrs: must("id", "to"), Within: nodesAndTimers, Kind: api.Sub, Must: To, May: Timer, Passed: true, Move: enter},
+		{Name: "end", Attrs: must("id"), Within: nothing, Kind: api.End, Move: leave},
 		{Name: "timer", Attrs: must("on", "after", "to"), Within: nothing},
 	}
 }

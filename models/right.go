@@ -4,6 +4,7 @@ import (
 	"ferry/api"
 	"ferry/kinds"
 	"ferry/markup"
+	"ferry/paths"
 )
 
 // maxSubs: in which a node stands.
@@ -108,7 +109,7 @@ func (c checker) nested() bool {
 // waysLead: every way out leads to a node beside that is no start.
 func (c checker) waysLead() bool {
 	for _, n := range c.nodes {
-		for _, to := range Ways(n) {
+		for _, to := range paths.Out(n) {
 			if to < 0 || to >= len(c.nodes) || c.nodes[to].Up != n.Up || c.nodes[to].Kind == api.Start {
 				return false
 			}
@@ -143,14 +144,8 @@ func (c checker) count(kind, up int) int {
 
 // entered: every node has the ways in that its kind needs.
 func (c checker) entered() bool {
-	in := make([]int, len(c.nodes))
-	for _, n := range c.nodes {
-		for _, to := range Ways(n) {
-			in[to]++
-		}
-	}
 	for i, n := range c.nodes {
-		if in[i] < waysNeeded(n.Kind) {
+		if paths.Into(c.nodes, i) < waysNeeded(n.Kind) {
 			return false
 		}
 	}
@@ -173,7 +168,7 @@ func (c checker) roundless() bool {
 	calm := make([]bool, len(c.nodes))
 	for range c.nodes {
 		for i, n := range c.nodes {
-			calm[i] = !c.passed(n) || allCalm(calm, timelyWays(n))
+			calm[i] = !c.passed(n) || allCalm(calm, paths.Timely(n))
 		}
 	}
 	for _, is := range calm {
