@@ -8,6 +8,7 @@ import (
 	"time"
 
 	"ferry/api"
+	"ferry/disk"
 )
 
 // scribbleState writes into all the lists of a state, and into their spare room.
@@ -184,4 +185,34 @@ func TestEngineLeavesNoGoroutine(t *testing.T) {
 		time.Sleep(time.Millisecond)
 	}
 	t.Errorf("P2: %d goroutines, %d before", runtime.NumGoroutine(), before)
+}
+
+// P2: what an engine tells that was opened again is the caller's too; and engines on what crashes left of one disk have nothing to do with one another.
+func TestReopenedApart(t *testing.T) {
+	d := disk.New()
+	x := reopen(t, d)
+	all(t, x, deploy(in(inTwice)), deploy(wideText), begin(0), begin(1))
+	want := told(x)
+	a, b := d.Crash(0), d.Crash(0)
+	y, z := reopen(t, a), reopen(t, b)
+	for range 3 {
+		for run := range 2 {
+			s, _ := y.Look(run)
+			scribbleState(s)
+			m, _ := y.Model(run)
+			scribble(m)
+		}
+	}
+	if told(y) != want || told(z) != want || found(t, a) != want {
+		t.Errorf("P2: what was written into an answer is seen in an engine")
+	}
+	all(t, y, finish(0, 3), pass(9), deploy(in(oneTask)))
+	if told(x) != want || told(z) != want || found(t, b.Crash(0)) != want || found(t, d.Crash(0)) != want {
+		t.Errorf("P2: an engine's commands are seen on another disk")
+	}
+	all(t, x, pass(1))
+	all(t, z, pass(2))
+	if x.Now() != 1 || y.Now() != 9 || z.Now() != 2 {
+		t.Errorf("P2: NOW = %d, %d, %d, want 1, 9, 2", x.Now(), y.Now(), z.Now())
+	}
 }

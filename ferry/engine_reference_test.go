@@ -40,6 +40,7 @@ type refEngine struct {
 
 // clone lets a command be tried.
 func (x refEngine) clone() refEngine {
+	x.models = slices.Clone(x.models)
 	x.runs = slices.Clone(x.runs)
 	for i := range x.runs {
 		x.runs[i].tokens = slices.Clone(x.runs[i].tokens)
@@ -421,6 +422,9 @@ func (c *chance) differs() string {
 			return fmt.Sprintf("Model(%d) = %+v, %d, want %+v", i, m, e, want)
 		}
 	}
+	if m, e := c.x.Model(len(c.ref.models)); e != api.ErrNone {
+		return fmt.Sprintf("there is one more model: %+v", m)
+	}
 	for i := range len(c.ref.runs) + 1 {
 		got, e := c.x.Look(i)
 		want, wantE := c.ref.look(i)
@@ -441,6 +445,7 @@ func (c *chance) differs() string {
 }
 
 func TestEngineByChance(t *testing.T) {
+	t.Parallel()
 	count := map[string]int{}
 	for seed := range uint64(150) {
 		c := &chance{maker: maker{Rand: rand.New(rand.NewPCG(seed, 5))}, count: count}

@@ -11,7 +11,7 @@ import (
 	"ferry/ferry"
 )
 
-// P5: a new engine is empty, and Open wants nothing of the disk that could fail there.
+// P5: a new engine is empty.
 func TestOpenNew(t *testing.T) {
 	r := open(t)
 	if r.x.Now() != 0 {

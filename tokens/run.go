@@ -2,14 +2,15 @@
 package tokens
 
 import (
-	"slices"
-
 	"ferry/api"
 	"ferry/paths"
 )
 
 // Whole is the scope that is no sub's: the whole run.
 const Whole = 0
+
+// NoSub is where a node stands that is in no sub.
+const NoSub = -1
 
 // Token is on its way to a node, in a scope, by one of the ways into the node.
 type Token struct {
@@ -29,11 +30,11 @@ func Of(nodes []api.Node, now int, s api.State) *Run {
 	return &Run{nodes: nodes, now: now, state: Copy(s)}
 }
 
-// Copy tells a state with lists of its own.
+// Copy tells a state with lists of its own. Those that are empty are nil, so that it can't be seen how they came to be so.
 func Copy(s api.State) api.State {
-	s.Items = slices.Clone(s.Items)
-	s.Scopes = slices.Clone(s.Scopes)
-	s.Waits = slices.Clone(s.Waits)
+	s.Items = append([]api.Item(nil), s.Items...)
+	s.Scopes = append([]api.Scope(nil), s.Scopes...)
+	s.Waits = append([]api.Wait(nil), s.Waits...)
 	return s
 }
 

@@ -10,9 +10,6 @@ import (
 	"ferry/tokens"
 )
 
-// noSub is where a node stands that is in no sub.
-const noSub = -1
-
 // Start begins a run, whose number it tells (P7).
 func (w World) Start(model int, vars [8]int32) (World, int, api.Errno) {
 	if !has(len(w.models), model) {
@@ -24,7 +21,7 @@ func (w World) Start(model int, vars [8]int32) (World, int, api.Errno) {
 	}
 	w.runs = append(slices.Clone(w.runs), api.State{Model: model, Vars: vars, Next: 1})
 	r := w.run(number)
-	r.Begin(noSub, tokens.Whole)
+	r.Begin(tokens.NoSub, tokens.Whole)
 	if !w.rest(number, r) {
 		return World{}, 0, api.ErrTokens
 	}
